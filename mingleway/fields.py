@@ -110,6 +110,13 @@ class Field:
         sums = self.sum_table
         return tuple([sums[one][parts[other]] for one, other in zip(total, row)])
 
+    def product_sum(self, one, other):
+        """What two rows, multiplied place by place, sum up to; nothing is checked here any more."""
+        total = 0
+        for number, more in zip(one, other):
+            total = self.sum_table[total][self.product_table[number][more]]
+        return total
+
     def __eq__(self, other):
         return isinstance(other, Field) and self.size() == other.size()
 
@@ -123,9 +130,34 @@ class Field:
         return f"field of {self.size()}"
 
 
+def unit_row(width, place):
+    """1 at this place and else noughts."""
+    return tuple([1 if at == place else 0 for at in range(width)])
+
+
+def is_row(field, row, width):
+    return len(row) == width and all([field.fits(number) for number in row])
+
+
 def check_row(field, row, width):
-    if len(row) != width or not all([field.fits(number) for number in row]):
+    if not is_row(field, row, width):
         raise BadRow("this is no row of the field, or one of another width")
+
+
+def check_words(field, words):
+    """Words are rows of one width, and not of none."""
+    for word in words:
+        check_row(field, word, len(words[0]))
+        if len(word) == 0:
+            raise BadRow("a word has one number at least")
+
+
+def plain_mix(field, rows, shares, width):
+    """The mix of the rows by the shares; nothing is checked here any more."""
+    total = (0,) * width
+    for row, share in zip(rows, shares):
+        total = field.mixed_in(total, share, row)
+    return total
 
 
 def mixed(field, rows, shares, *, width):
@@ -136,7 +168,4 @@ def mixed(field, rows, shares, *, width):
         raise BadNumber("each row needs a share")
     if not all([field.fits(share) for share in shares]):
         raise BadNumber("a share is no number of the field")
-    total = (0,) * width
-    for row, share in zip(rows, shares):
-        total = field.mixed_in(total, share, row)
-    return total
+    return plain_mix(field, rows, shares, width)

@@ -1,6 +1,6 @@
 """Spans: all mixes of some rows."""
 
-from mingleway.fields import check_row
+from mingleway.fields import check_row, unit_row
 
 
 def first_place(row):
@@ -41,7 +41,7 @@ class Span:
 
     def next_mark(self):
         """The shares of the row that comes next: 1 at its own place."""
-        return tuple([1 if at == len(self.long_rows) else 0 for at in range(self.own_width)])
+        return unit_row(self.own_width, len(self.long_rows))
 
     def rest_of(self, row, mark):
         """What stays of a row and its shares when all that this span has of it is taken away."""
