@@ -11,6 +11,11 @@ BASES = {4: 2, 8: 2, 9: 3, 16: 2}
 BEYOND = {4: 3, 8: 3, 9: 2, 16: 3}
 
 
+def check_size(size):
+    if size not in SIZES:
+        raise BadSize("no field has this size")
+
+
 def sum_by_figures(base, one, other):
     total = 0
     weight = 1
@@ -48,8 +53,7 @@ class Field:
     """The numbers from 0 to size less one, with their own sums and products."""
 
     def __init__(self, size=COMMON_SIZE):
-        if size not in SIZES:
-            raise BadSize("no field has this size")
+        check_size(size)
         base = BASES.get(size, size)
         numbers = list(range(size))
         self.prime = base

@@ -1,6 +1,7 @@
 """Heads of lines: by which shares of the letters a row on a line is mixed."""
 
 from mingleway.fields import plain_mix, unit_row
+from mingleway.spans import Span
 
 
 def letter_keys(letters):
@@ -40,3 +41,15 @@ class Heads:
 
     def rows_of(self, numbers):
         return [self.found[number] for number in numbers]
+
+    def serve(self, numbers):
+        """Whether the heads of these lines have all rows in their span."""
+        return len(Span(self.own_field, self.own_letters, rows=self.rows_of(numbers))) == self.own_letters
+
+
+def heads_under(task, feeds, mixers, loss):
+    """The heads of all lines under a loss."""
+    heads = Heads(task.field(), task.letters(), loss)
+    for number in feeds:
+        heads.lead(number, feeds[number], mixers[number])
+    return heads

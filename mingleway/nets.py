@@ -71,8 +71,11 @@ class Net:
     def houses(self):
         return list(self.own_houses)
 
+    def numbers(self):
+        return sorted(self.own_lines)
+
     def lines(self):
-        return [(number,) + self.own_lines[number] for number in sorted(self.own_lines)]
+        return [(number,) + self.own_lines[number] for number in self.numbers()]
 
     def into(self, name):
         self.check_house(name)

@@ -2,14 +2,14 @@
 
 from mingleway.errors import BadPlan, BadRow, Narrow, Short, Unsolved
 from mingleway.fields import check_words, is_row, plain_mix, unit_row
-from mingleway.heads import Heads, feeds_of
+from mingleway.heads import feeds_of, heads_under
 from mingleway.making import good_mixers
 from mingleway.spans import Span
 from mingleway.ways import check_lost
 
 
 def check_mixers(task, mixers):
-    numbers = [line[0] for line in task.net().lines()]
+    numbers = task.net().numbers()
     if sorted(mixers) != numbers:
         raise BadPlan("each line has mixers, and nothing else has")
     for number in numbers:
@@ -53,40 +53,31 @@ class Plan:
 
     def heads(self, loss=()):
         check_lost(self.own_net, loss)
-        return self.heads_under(loss)
-
-    def heads_under(self, loss):
-        heads = Heads(self.own_task.field(), self.own_task.letters(), loss)
-        for number, feeds in self.own_feeds.items():
-            heads.lead(number, feeds, self.own_mixers[number])
         numbers = list(self.own_mixers)
-        return dict(zip(numbers, heads.rows_of(numbers)))
+        return dict(zip(numbers, self.all_heads(loss).rows_of(numbers)))
+
+    def all_heads(self, loss):
+        return heads_under(self.own_task, self.own_feeds, self.own_mixers, loss)
 
     def served(self, hearer, loss=()):
         self.own_net.check_house(hearer)
         check_lost(self.own_net, loss)
-        return self.serves(hearer, self.heads_under(loss))
-
-    def serves(self, hearer, heads):
-        """Whether the heads of the lines into this house have all rows in their span."""
-        letters = self.own_task.letters()
-        rows = [heads[number] for number in self.own_net.into(hearer)]
-        return len(Span(self.own_task.field(), letters, rows=rows)) == letters
+        return self.all_heads(loss).serve(self.own_net.into(hearer))
 
     def good(self):
         return len(self.bad_cases()) == 0
 
     def bad_cases(self):
-        heads = {loss: self.heads_under(loss) for loss in [()] + self.own_task.losses()}
-        return [(hearer, loss) for hearer, loss in self.own_task.cases() if not self.serves(hearer, heads[loss])]
+        heads = {loss: self.all_heads(loss) for loss in [()] + self.own_task.losses()}
+        numbers = {hearer: self.own_net.into(hearer) for hearer in self.own_task.hearers()}
+        return [(hearer, loss) for hearer, loss in self.own_task.cases() if not heads[loss].serve(numbers[hearer])]
 
     def carried(self, words, *, loss=()):
         field = self.own_task.field()
         if len(words) != self.own_task.letters():
             raise BadRow("each letter has a word")
         check_words(field, words)
-        check_lost(self.own_net, loss)
-        heads = self.heads_under(loss)
+        heads = self.heads(loss)
         return {number: plain_mix(field, words, heads[number], len(words[0])) for number in heads}
 
     def solved(self, hearer, came, *, loss=()):
@@ -96,8 +87,8 @@ class Plan:
             raise BadRow("a row comes by each line into the house, and by no other one")
         rows = [tuple(came[number]) for number in numbers]
         check_words(self.own_task.field(), rows)
-        heads = self.heads_under(loss)
-        return words_from(self.own_task.field(), self.own_task.letters(), [heads[number] for number in numbers], rows)
+        heads = self.all_heads(loss).rows_of(numbers)
+        return words_from(self.own_task.field(), self.own_task.letters(), heads, rows)
 
     def __eq__(self, other):
         if not isinstance(other, Plan):
@@ -105,12 +96,16 @@ class Plan:
         return self.own_task == other.own_task and self.own_mixers == other.own_mixers
 
 
-def made(task):
-    """A plan that serves all cases."""
+def check_short(task):
     lack = task.short()
     if lack is not None:
         hearer, loss, within = lack
         raise Short(hearer, loss, within)
+
+
+def made(task):
+    """A plan that serves all cases."""
+    check_short(task)
     if task.field().size() < len(task.cases()):
         raise Narrow("the field has fewer numbers than there are cases")
     return Plan(task, good_mixers(task))
