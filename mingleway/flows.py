@@ -18,7 +18,8 @@ def reached(start, steps):
     queue = [start]
     at = 0
     while at < len(queue):
-        for step in steps_from.get(queue[at], []):
+        steps_on = steps_from.get(queue[at], [])
+        for step in steps_on:
             if step[1] not in found:
                 found[step[1]] = step
                 queue.append(step[1])

@@ -69,7 +69,8 @@ class Run:
         """How all stands when the coming turn is gone."""
         stand = self.now.twin()
         stand.own_guards.update(self.new_guards)
-        for number, row in stand.take_due(self.turn()):
+        due = stand.take_due(self.turn())
+        for number, row in due:
             stand.come(self.turn(), self.own_net.ends(number)[1], number, row)
         for number, one, other, slow in self.own_net.lines():
             if len(stand.kept[one]) > 0:

@@ -1,5 +1,6 @@
 """A slow second telling of what the document says, straight from its words, to hold the program against."""
 
+import unittest
 from itertools import combinations, product
 
 from mingleway.nets import Net
@@ -11,6 +12,15 @@ RULES = {4: (1, 1), 8: (1, 1, 0), 9: (2, 0), 16: (1, 1, 0, 0)}
 LONG = 10 ** 29 + 7
 # More figures than Python writes out.
 VERY_LONG = 10 ** 5000 + 1
+
+
+class RefusalCase(unittest.TestCase):
+    def refused(self, error, call, **fields):
+        """The call is refused by this very class, with just these fields."""
+        with self.assertRaises(error) as caught:
+            call()
+        self.assertIs(caught.exception.__class__, error)
+        self.assertEqual(vars(caught.exception), fields)
 
 
 def base_of(size):

@@ -35,13 +35,7 @@ def told(board):
             board.letters(), board.losses(), board.size(), board.busy(), planned and planned.mixers())
 
 
-class BoardCase(unittest.TestCase):
-    def refused(self, error, call, **fields):
-        with self.assertRaises(error) as caught:
-            call()
-        self.assertIs(caught.exception.__class__, error)
-        self.assertEqual(vars(caught.exception), fields)
-
+class BoardCase(helper.RefusalCase):
     def refuses(self, board, deed, error, **fields):
         """The deed is refused, by do and by do_all, and all stands as it stood."""
         before = told(board)

@@ -64,13 +64,7 @@ def samples():
             yield task
 
 
-class LeastCase(unittest.TestCase):
-    def refused(self, error, call, **fields):
-        with self.assertRaises(error) as caught:
-            call()
-        self.assertIs(caught.exception.__class__, error)
-        self.assertEqual(vars(caught.exception), fields)
-
+class LeastCase(helper.RefusalCase):
     def assert_first(self, told, task, plans):
         wanted = next((mixers for mixers in plans if is_good(task, mixers)), None)
         if wanted is None:

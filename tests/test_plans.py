@@ -49,15 +49,7 @@ def some_losses(chance, task):
     return [(), *task.losses(), *others, tuple(numbers[::-1])]
 
 
-class PlanCase(unittest.TestCase):
-    def refused(self, error, call, **fields):
-        with self.assertRaises(error) as caught:
-            call()
-        self.assertIs(caught.exception.__class__, error)
-        self.assertEqual(vars(caught.exception), fields)
-
-
-class TestPlan(PlanCase):
+class TestPlan(helper.RefusalCase):
     def test_task_and_mixers(self):
         for task, mixers, plan, _ in samples():
             self.assertTrue(plan.task() == task)
@@ -109,7 +101,7 @@ class TestPlan(PlanCase):
         self.assertTrue(plan.task() == butterfly(losses=[(1,)]))
 
 
-class TestBadPlan(PlanCase):
+class TestBadPlan(helper.RefusalCase):
     def test_each_kind(self):
         task = butterfly(size=9)
         wrong = [{}, {**COMMON, 10: (1,)}, {**COMMON, 0: ()}, {**COMMON, -1: (1, 0)}, {**COMMON, helper.LONG: (1,)}]
@@ -136,7 +128,7 @@ class TestBadPlan(PlanCase):
         self.refused(BadPlan, lambda: Plan(task, {1: (3,), 2: (0,)}))
 
 
-class TestHeads(PlanCase):
+class TestHeads(helper.RefusalCase):
     def test_under_losses_told_and_others(self):
         for task, mixers, plan, chance in samples():
             self.assertEqual(plan.heads(), heads_by_the_words(task, mixers))
@@ -165,7 +157,7 @@ class TestHeads(PlanCase):
             self.refused(NoLine, lambda: plan.served("x", loss), number=number)
 
 
-class TestServed(PlanCase):
+class TestServed(helper.RefusalCase):
     def test_every_house(self):
         met = set()
         for task, mixers, plan, chance in samples():
@@ -205,7 +197,7 @@ class TestServed(PlanCase):
         self.assertIs(Plan(task, {1: (), 2: (1,)}).served("s"), False)
 
 
-class TestCarried(PlanCase):
+class TestCarried(helper.RefusalCase):
     def test_words_of_one_to_five_numbers(self):
         for task, mixers, plan, chance in samples():
             size, letters = task.field().size(), task.letters()
@@ -232,7 +224,7 @@ class TestCarried(PlanCase):
             plan.carried([(1,), (8,)], (1,))
 
 
-class TestSolved(PlanCase):
+class TestSolved(helper.RefusalCase):
     def test_every_house(self):
         met = set()
         for task, mixers, plan, chance in samples():

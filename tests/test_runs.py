@@ -101,13 +101,7 @@ def sample_row(chance, size, width):
     return tuple(chance.choice((0, chance.randrange(size))) for _ in range(width))
 
 
-class RunCase(unittest.TestCase):
-    def refused(self, error, call, **fields):
-        with self.assertRaises(error) as caught:
-            call()
-        self.assertIs(caught.exception.__class__, error)
-        self.assertEqual(vars(caught.exception), fields)
-
+class RunCase(helper.RefusalCase):
     def assert_alike(self, run, houses, lines, source, words, size, seed, turns):
         wanted = Followed(houses, lines, source, words, size, seed, turns)
         self.assertEqual((run.turn(), len(run)), (len(turns), len(turns)))

@@ -43,13 +43,7 @@ def samples(many, turns, most_houses=5):
         yield chance, houses, lines, source, house, turn, lost
 
 
-class SpreadCase(unittest.TestCase):
-    def refused(self, error, call, **fields):
-        with self.assertRaises(error) as caught:
-            call()
-        self.assertIs(caught.exception.__class__, error)
-        self.assertEqual(vars(caught.exception), fields)
-
+class SpreadCase(helper.RefusalCase):
     def assert_bar(self, told, houses, source, house, turn):
         self.assertIsInstance(told, list)
         self.assertTrue(all(isinstance(pair, tuple) and len(pair) == 2 for pair in told))
