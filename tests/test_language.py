@@ -68,6 +68,20 @@ class TestLanguage(unittest.TestCase):
             for name in node.names:
                 self.assertIn(name.name, defined, place)
 
+    def test_no_two_files_import_from_each_other(self):
+        above = {name[:-3]: {node.module.partition(".")[2] for node in tree.body if isinstance(node, ast.ImportFrom)}
+                 for name, tree in self.trees.items()}
+        while free := [name for name, others in above.items() if not others & set(above)]:
+            above = {name: others for name, others in above.items() if name not in free}
+        self.assertEqual(above, {})
+
+    def test_numbers_and_strings(self):
+        for place, node in self.nodes(ast.BinOp):
+            self.assertFalse(isinstance(node.op, ast.Pow) and not isinstance(node.right, ast.Constant), place)
+        for place, node in self.nodes(ast.Constant):
+            self.assertFalse(isinstance(node.value, str) and "%" in node.value, place)
+            self.assertNotIsInstance(node.value, float, place)
+
     def test_names(self):
         for name, tree in self.trees.items():
             imports = [item.name for node in tree.body if isinstance(node, ast.ImportFrom) for item in node.names]

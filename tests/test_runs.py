@@ -787,6 +787,17 @@ class TestRefusals(RunCase):
         with self.assertRaises(TypeError):
             run.slow(1, 2)
 
+    def test_a_refused_telling_is_not_told(self):
+        refused = (lambda run: run.spoil(1, (1, 2)), lambda run: run.slow(1, by=6), lambda run: run.slow(1, by=0))
+        for call in refused:
+            run, other = [Run(helper.pairs_net("sa ax"), "s", [(1, 0), (0, 1)], size=3) for _ in range(2)]
+            self.assertRaises((BadRow, BadNumber), call, run)
+            run.lose(1)
+            other.lose(1)
+            run.go(4)
+            other.go(4)
+            self.assertEqual(told(run, "asx"), told(other, "asx"))
+
     def test_guards_tell_the_first(self):
         run = Run(helper.pairs_net("sa ax"), "s", [(1, 0), (0, 1)], size=3)
         wrong = [[()], [(1,)], [(1, 1), (1, 1, 1)], [(3, 0)], [(0, 0), (0, -1)], [(helper.LONG, 0)]]
